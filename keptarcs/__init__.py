@@ -1,0 +1,1 @@
+"""Rows of numbers, exchanges that count, and the classes that they leave."""
