@@ -30,6 +30,36 @@ LOTS = """
 [True, ('makes',), ('pair', 1, 3)]
 """
 
+RULES = """
+>>> from keptarcs.rules import all_rules, judge_rule, least_blind, many_rules, rules_common, rules_together, widest_rule
+>>> EASY = ((1, 2, ()), (1, 3, ()), (2, 3, ()))
+>>> [judge_rule(3, EASY), judge_rule(3, ((1, 2, ()), (1, 3, ()))), widest_rule(3, ((1, 3, (2,)),)) == EASY, least_blind(3, EASY), least_blind(3, ((2, 3, ()),)), len(all_rules(3)), many_rules(4)]
+[('rule',), ('lacks', (1, 3, ()), (2, 3, ())), True, ((1, 3, (2,)),), ((1, 2, ()),), 7, 60]
+>>> [rules_common(3, EASY, ((1, 2, ()), (1, 3, (2,)), (2, 3, ()))), rules_together(3, ((1, 2, ()),), ((2, 3, ()),))]
+[((1, 2, ()), (2, 3, ())), ((1, 2, ()), (2, 3, ()))]
+>>> from keptarcs.finest import arc_holds, finest_rule, judge_arc
+>>> [finest_rule(3, (((2, 1, 3), (2, 3, 1)),)), finest_rule(3, (((1, 2, 3), (2, 1, 3)),)), arc_holds(3, (((1, 2, 3), (2, 1, 3)),), (1, 3, ()), ('blind', 0, 0, (0,))), judge_arc(3, (((2, 1, 3), (2, 3, 1)),), (1, 3, ()))[0]]
+[((1, 2, ()), (1, 3, ()), (2, 3, ())), ((2, 3, ()),), True, 'counts']
+"""
+
+CLASSES = """
+>>> from keptarcs.classes import are_one, class_of, classes, first_row, judge_first, judge_one, last_row, lot_of_class, many_classes, one_holds, row_of_lot, way_down
+>>> EASY = ((1, 2, ()), (1, 3, ()), (2, 3, ()))
+>>> [first_row(3, EASY, (2, 3, 1)), last_row(3, EASY, (2, 1, 3)), class_of(3, EASY, (2, 3, 1)), judge_first(3, EASY, (2, 3, 1)), way_down(3, EASY, (2, 3, 1)), lot_of_class(3, EASY, (2, 3, 1)), row_of_lot(3, EASY, ((1, 3, ()),))]
+[(2, 1, 3), (2, 3, 1), ((2, 1, 3), (2, 3, 1)), ('fall', 1), (1,), ((1, 2, ()),), (3, 1, 2)]
+>>> [are_one(3, EASY, (2, 1, 3), (2, 3, 1)), judge_one(3, EASY, (2, 1, 3), (1, 2, 3)), one_holds(3, EASY, (2, 1, 3), (2, 3, 1), ('ways', (1,))), classes(3, EASY), many_classes(3, ()), many_classes(4, ((1, 2, ()), (2, 3, ()), (3, 4, ())))]
+[True, ('lots', ((1, 2, ()),), ()), True, ((1, 2, 3), (1, 3, 2), (2, 1, 3), (3, 1, 2), (3, 2, 1)), 1, 8]
+"""
+
+QUOTIENT = """
+>>> from keptarcs.quotient import are_neighbours, class_below_holds, greatest_class_below, is_class_below, judge_class_below, least_class_above, lower_neighbours, upper_neighbours
+>>> EASY = ((1, 2, ()), (1, 3, ()), (2, 3, ()))
+>>> [is_class_below(3, EASY, (2, 3, 1), (3, 2, 1)), judge_class_below(3, EASY, (3, 1, 2), (2, 1, 3))[0], class_below_holds(3, EASY, (2, 3, 1), (3, 2, 1), ('below', (2, 1, 3), (3, 2, 1))), least_class_above(3, EASY, (2, 1, 3), (1, 3, 2)), greatest_class_below(3, EASY, (2, 3, 1), (3, 1, 2))]
+[True, 'pair', True, (3, 2, 1), (1, 2, 3)]
+>>> [lower_neighbours(3, EASY, (3, 2, 1)), upper_neighbours(3, EASY, (2, 1, 3)), are_neighbours(3, EASY, (1, 3, 2), (3, 1, 2)), are_neighbours(3, EASY, (2, 1, 3), (3, 1, 2))]
+[(((1, 2, ()), (3, 1, 2)), ((2, 3, ()), (2, 1, 3))), (((2, 3, ()), (3, 2, 1)),), True, False]
+"""
+
 
 class ExamplesTest(unittest.TestCase):
     def test_rows(self):
@@ -41,9 +71,18 @@ class ExamplesTest(unittest.TestCase):
     def test_lots(self):
         examples.check(self, LOTS)
 
+    def test_rules_and_finest_rules(self):
+        examples.check(self, RULES)
+
+    def test_classes(self):
+        examples.check(self, CLASSES)
+
+    def test_quotient(self):
+        examples.check(self, QUOTIENT)
+
     def test_readme(self):
         blocks = README.read_text().split("```")[1::2]
-        self.assertEqual(len(blocks), 2)
+        self.assertEqual(len(blocks), 3)
         for block in blocks:
             examples.check(self, block)
 

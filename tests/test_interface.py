@@ -20,6 +20,40 @@ FUNCTIONS = {
         "lot_of_falls(n, row)", "lot_of_rises(n, row)", "row_of_falls(n, lot)",
         "row_of_rises(n, lot)", "judge_making(n, row, rows)", "making_holds(n, row, rows, thing)",
     ),
+    "rules": (
+        "is_rule(n, thing)", "judge_rule(n, arcs)", "rule_holds(n, arcs, thing)", "widest_rule(n, arcs)",
+        "least_blind(n, rule)", "rules_together(n, one, other)", "rules_common(n, one, other)",
+        "is_finer(n, one, other)", "all_rules(n)", "many_rules(n)",
+    ),
+    "finest": (
+        "finest_rule(n, pairs)", "judge_arc(n, pairs, arc)", "arc_holds(n, pairs, arc, thing)",
+    ),
+    "classes": (
+        "first_row(n, rule, row)", "last_row(n, rule, row)", "judge_first(n, rule, row)",
+        "first_holds(n, rule, row, thing)", "way_down(n, rule, row)", "are_one(n, rule, one, other)",
+        "judge_one(n, rule, one, other)", "one_holds(n, rule, one, other, thing)", "class_of(n, rule, row)",
+        "lot_of_class(n, rule, row)", "row_of_lot(n, rule, lot)", "classes(n, rule)", "many_classes(n, rule)",
+    ),
+    "quotient": (
+        "is_class_below(n, rule, one, other)", "judge_class_below(n, rule, one, other)",
+        "class_below_holds(n, rule, one, other, thing)", "least_class_above(n, rule, one, other)",
+        "greatest_class_below(n, rule, one, other)", "lower_neighbours(n, rule, row)",
+        "upper_neighbours(n, rule, row)", "are_neighbours(n, rule, one, other)",
+    ),
+}
+
+ROWS = {"row": (2, 3, 1), "one": (2, 3, 1), "other": (3, 1, 2), "i": 1, "pairs": ((1, 3), (2, 3)), "thing": None}
+ARCS = {"row": (2, 3, 1), "i": 1, "arc": (1, 3, (2,)), "one": (2, 3, ()), "other": (1, 3, ()), "thing": ("apart",)}
+LOTS = {"arcs": ((1, 2, ()),), "lot": ((1, 2, ()),), "row": (2, 3, 1), "rows": ((2, 1, 3),), "thing": ("lot",)}
+EASY = ((1, 2, ()), (1, 3, ()), (2, 3, ()))
+RULES = {"arcs": EASY, "rule": EASY, "one": EASY, "other": EASY[:1], "thing": ("rule",)}
+FINEST = {"pairs": (((2, 1, 3), (2, 3, 1)),), "arc": (1, 3, ()), "thing": ("counts", EASY)}
+CLASSES = {**ROWS, "rule": EASY, "lot": ((1, 3, ()),), "thing": ("first",)}
+
+# Right arguments for the functions of each file.
+GOOD = {
+    "rows": ROWS, "arcs": ARCS, "lots": LOTS, "rules": RULES, "finest": FINEST, "classes": CLASSES,
+    "quotient": CLASSES,
 }
 
 
@@ -37,6 +71,19 @@ class InterfaceTest(unittest.TestCase):
             for told in functions:
                 function = getattr(module, told.partition("(")[0])
                 self.assertEqual(function.__module__, f"keptarcs.{file}")
+
+    def test_by_position_and_by_name_and_twice(self):
+        for file, functions in FUNCTIONS.items():
+            module = importlib.import_module(f"keptarcs.{file}")
+            for told in functions:
+                function = getattr(module, told.partition("(")[0])
+                named = {name: {**GOOD[file], "n": 3}[name] for name in inspect.signature(function).parameters}
+                kept = repr(named)
+                found = function(*named.values())
+                self.assertIsNotNone(found)
+                self.assertEqual(function(**dict(reversed(list(named.items())))), found, told)
+                self.assertEqual(function(*named.values()), found, told)
+                self.assertEqual(repr(named), kept)
 
 
 if __name__ == "__main__":

@@ -12,6 +12,10 @@ BUILTINS = set("""
     len range enumerate zip min max sum abs sorted reversed int str bool list tuple dict set isinstance ord
     repr any all divmod Exception
 """.split())
+WORDS = set("""
+    type typing enum Enum IntEnum StrEnum Flag IntFlag Generic Protocol ABC ABCMeta namedtuple NamedTuple TypedDict
+    abstractmethod dataclass overload contextmanager register mro elements open input law version_info args
+""".split())
 BARRED = (
     ast.Global, ast.AsyncFunctionDef, ast.Await, ast.Div, ast.Pow, ast.GeneratorExp, ast.AnnAssign, ast.Import,
 )
@@ -59,6 +63,37 @@ class LanguageTest(unittest.TestCase):
             if name in vars(builtins):
                 self.assertIn(name, BUILTINS, file)
                 self.assertIsInstance(getattr(node, "ctx", None), ast.Load, (file, name))
+
+    def test_words(self):
+        found = [(file, node) for file, node in nodes(ast.Name, ast.arg, ast.Attribute, ast.FunctionDef, ast.ClassDef)]
+        for file, node in found:
+            names = {getattr(node, field, None) for field in ("id", "arg", "attr", "name")}
+            self.assertEqual(names & WORDS, set(), file)
+
+    def test_no_name_of_an_import_is_given_to_anything_else(self):
+        for file in FILES:
+            tree = ast.parse(file.read_text())
+            bound = [name.name for node in tree.body if isinstance(node, ast.ImportFrom) for name in node.names]
+            bound += [node.name for node in tree.body if isinstance(node, (ast.FunctionDef, ast.ClassDef))]
+            self.assertEqual(len(bound), len(set(bound)), file)
+            for node in ast.walk(tree):
+                if isinstance(node, ast.arg):
+                    self.assertNotIn(node.arg, bound, file)
+                if isinstance(node, ast.Name) and isinstance(node.ctx, ast.Store):
+                    self.assertNotIn(node.id, bound, file)
+
+    def test_no_two_files_import_from_each_other(self):
+        known = {
+            file.stem: {
+                node.module.partition(".")[2] for node in ast.parse(file.read_text()).body
+                if isinstance(node, ast.ImportFrom) and node.module.startswith("keptarcs.")
+            }
+            for file in FILES
+        }
+        while known:
+            free = [file for file, others in known.items() if not others & set(known)]
+            self.assertTrue(free, known)
+            known = {file: others for file, others in known.items() if file not in free}
 
 
 if __name__ == "__main__":

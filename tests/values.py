@@ -17,6 +17,9 @@ ANY = (
     (1, 2), [1, 2], (2, 1), (1, "2"), (1, [2]), (1, (2,)), (1, {}), (0, 1), (1, 10 ** 39),
     (1, 2, 3, 4, 5), (1, 1, 1), (3, 2, 0), (1, 2, 4), (1, 2, ()), [1, 2, ()], (1, 3, (2, 2)),
     ("below",), ["below"], ("apart",), ("lot",), ("makes",), ("pair", 1, 2), ("cross", 2, 3),
+    ("rule",), ("lacks", 1, 2), ("counts", ()), ("counts", 1), ("blind", 0, 0, (0,)), ("blind", 0, 0, 0),
+    ("first",), ("fall", 0), ("fall", True), ("ways", ()), ("ways", (0,)), ("ways", [0]), ("lots", (), ()),
+    ("lots", 1, 2), ("below", (1, 2), (2, 1)), ("below", 1, 2), (((1, 2), (2, 1)),), (((1, 2), [2, 1]),),
     ("order", 0), ("order", -1), ("ends", 1, 2), ("word",) * 5, ("below", ()), ("lot", 1),
     nested(8), [[[[[[[[]]]]]]]], (1,) * 1999, tuple(range(1, 2000)), [None] * 1999,
     Own(), (Own(),), [Own(), Own()], (1, 2, Own()), ("pair", Own(), 2),
@@ -59,16 +62,21 @@ def spoiled(value):
     return found
 
 
+def check_told(test, holds, args, is_right, things):
+    """A function tells of each value whether it is right, and changes nothing."""
+    for thing in things:
+        kept = repr((args, thing))
+        told = holds(*args, thing)
+        test.assertIs(told, is_right(thing), (args, thing))
+        test.assertIs(holds(*args, thing=thing), told)
+        test.assertEqual(repr((args, thing)), kept)
+
+
 def check_holds(test, holds, args, right, others):
     """A function tells True for just the right ones of right and other values, and their spoilings."""
     things = list(itertools.chain(ANY, right, others))
     things += [other for thing in right for other in spoiled(thing)]
-    for thing in things:
-        kept = repr((args, thing))
-        told = holds(*args, thing)
-        test.assertIs(told, is_among(thing, right), (args, thing))
-        test.assertIs(holds(*args, thing=thing), told)
-        test.assertEqual(repr((args, thing)), kept)
+    check_told(test, holds, args, lambda thing: is_among(thing, right), things)
 
 
 def check_error(test, wanted, thing, call):
