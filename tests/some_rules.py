@@ -75,3 +75,46 @@ def few_wrong_rules(n):
     found += [rule[:-1] + (arc,) for arc in ((n, n - 1, ()), (n - 1, n, (True,)), (n - 1, n, []), None)]
     found += [((True, 2, ()),) + rule[1:], tuple(plain.arcs(n + 1)), ((1, n, ()),), ((1, 3, (2,)), (2, 3, ()))]
     return [thing for thing in found if not plain.is_rule(n, thing)]
+
+
+def is_full(n, rule):
+    return set(neighbours(n)) <= set(rule)
+
+
+def by_marks(n, marks):
+    """The rule of marks, after the document's words."""
+    def blind(arc):
+        a, b, ahead = arc
+        return any(
+            marks[p - 1] in (("ahead", "both") if p in ahead else ("behind", "both")) for p in range(a + 1, b)
+        )
+    return tuple(arc for arc in plain.arcs(n) if not blind(arc))
+
+
+def drawn_marks(n, many, seed):
+    """Some marks, drawn in the same way each time."""
+    draw = random.Random(seed)
+    return [tuple(draw.choice(("", "", "ahead", "behind", "both")) for _ in range(n)) for _ in range(many)]
+
+
+def full_rules(n):
+    """The full ones among all rules, for small n."""
+    return [rule for rule in plain.rules(n) if is_full(n, rule)]
+
+
+def drawn_full(n, many, seed):
+    """Full rules by which some drawn arcs are blind, even ones and others."""
+    arcs = [arc for arc in plain.arcs(n) if arc[1] - arc[0] > 1]
+    draw = random.Random(seed)
+    return [plain.widest(n, draw.sample(arcs, min(len(arcs), draw.randint(1, 4)))) for _ in range(many)]
+
+
+def rules_of_all_kinds(n):
+    """Some rules, such by marks, full ones, and such by which the arc (n - 1, n, ()) is blind."""
+    found = some_rules(n) + [by_marks(n, marks) for marks in drawn_marks(n, 4, n)]
+    if n > 1:
+        found += [plain.widest(n, ((n - 1, n, ()),)), plain.widest(n, ((1, 2, ()), (n - 1, n, ())))]
+        found += [tuple(arc for arc in rule if arc[1] < n) for rule in found[:4]]
+    if n > 2:
+        found += drawn_full(n, 5, n)
+    return list(dict.fromkeys(found))

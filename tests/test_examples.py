@@ -60,6 +60,35 @@ QUOTIENT = """
 [(((1, 2, ()), (3, 1, 2)), ((2, 3, ()), (2, 1, 3))), (((2, 3, ()), (3, 2, 1)),), True, False]
 """
 
+LISTS = """
+>>> from keptarcs.lists import gone_through, lesser_rule, listed_row, place_in_list, row_at
+>>> ALL = ((1, 2, ()), (1, 3, ()), (1, 3, (2,)), (2, 3, ()))
+>>> TREES = ((1, 2, ()), (1, 3, ()), (2, 3, ()))
+>>> [gone_through(3, ALL), gone_through(3, TREES), gone_through(3, ((1, 2, ()),))]
+[((1, 2, 3), (1, 3, 2), (3, 1, 2), (3, 2, 1), (2, 3, 1), (2, 1, 3)), ((1, 2, 3), (1, 3, 2), (3, 1, 2), (3, 2, 1), (2, 1, 3)), ((1, 2, 3), (2, 1, 3))]
+>>> [lesser_rule(3, TREES), listed_row(3, TREES, (2, 3, 1)), place_in_list(3, TREES, (2, 3, 1)), row_at(3, ALL, 4)]
+[((1, 2, ()),), (2, 1, 3), 4, (2, 3, 1)]
+"""
+
+EVEN = """
+>>> from keptarcs.even import even_holds, is_full, judge_even, many_neighbours
+>>> TREES = ((1, 2, ()), (1, 3, ()), (2, 3, ()))
+>>> [is_full(3, TREES), is_full(3, ((1, 2, ()),)), many_neighbours(3, TREES, (2, 3, 1)), judge_even(3, TREES), even_holds(3, TREES, ('uneven', (1, 3, (2,)), (1, 2, 3)))]
+[True, False, 2, ('even',), False]
+"""
+
+MARKS = """
+>>> from keptarcs.marks import is_marks, judge_marked, marked_holds, rule_of_marks, twin_rule
+>>> TREES = ((1, 2, ()), (1, 3, ()), (2, 3, ()))
+>>> [is_marks(3, ('', 'ahead', '')), rule_of_marks(3, ('', 'ahead', 'both')), rule_of_marks(3, ('', 'both', '')), judge_marked(3, TREES)[0], marked_holds(3, TREES, ('marks', ('both', 'ahead', ''))), len(twin_rule(4))]
+[True, ((1, 2, ()), (1, 3, ()), (2, 3, ())), ((1, 2, ()), (2, 3, ())), 'marks', True, 9]
+>>> from keptarcs.trees import first_row_of, is_tree, judge_twins, late_tree_of, next_trees, rows_of_tree, tree_of, twins_hold
+>>> [tree_of(3, (2, 3, 1)), late_tree_of(3, (2, 3, 1)), is_tree(2, (1, (2, (), ()), ())), rows_of_tree(3, tree_of(3, (2, 3, 1))), first_row_of(3, tree_of(3, (2, 3, 1)))]
+[(2, (1, (), ()), (3, (), ())), (1, (), (3, (2, (), ()), ())), False, 2, (2, 1, 3)]
+>>> [next_trees(2, (1, (), (2, (), ()))), judge_twins(3, tree_of(3, (2, 3, 1)), late_tree_of(3, (2, 3, 1))), twins_hold(2, (1, (), (2, (), ())), (1, (), (2, (), ())), ('apart', 1))]
+[((2, (1, (), ()), ()),), ('twins', (2, 3, 1)), True]
+"""
+
 
 class ExamplesTest(unittest.TestCase):
     def test_rows(self):
@@ -80,9 +109,18 @@ class ExamplesTest(unittest.TestCase):
     def test_quotient(self):
         examples.check(self, QUOTIENT)
 
+    def test_lists(self):
+        examples.check(self, LISTS)
+
+    def test_even_rules(self):
+        examples.check(self, EVEN)
+
+    def test_marks_and_trees(self):
+        examples.check(self, MARKS)
+
     def test_readme(self):
         blocks = README.read_text().split("```")[1::2]
-        self.assertEqual(len(blocks), 3)
+        self.assertEqual(len(blocks), 4)
         for block in blocks:
             examples.check(self, block)
 

@@ -40,6 +40,22 @@ FUNCTIONS = {
         "greatest_class_below(n, rule, one, other)", "lower_neighbours(n, rule, row)",
         "upper_neighbours(n, rule, row)", "are_neighbours(n, rule, one, other)",
     ),
+    "lists": (
+        "lesser_rule(n, rule)", "gone_through(n, rule)", "listed_row(n, rule, row)", "place_in_list(n, rule, row)",
+        "row_at(n, rule, number)",
+    ),
+    "even": (
+        "is_full(n, rule)", "many_neighbours(n, rule, row)", "judge_even(n, rule)", "even_holds(n, rule, thing)",
+    ),
+    "marks": (
+        "is_marks(n, thing)", "rule_of_marks(n, marks)", "twin_rule(n)", "judge_marked(n, rule)",
+        "marked_holds(n, rule, thing)",
+    ),
+    "trees": (
+        "is_tree(n, thing)", "tree_of(n, row)", "late_tree_of(n, row)", "next_trees(n, tree)",
+        "rows_of_tree(n, tree)", "first_row_of(n, tree)", "judge_twins(n, one, other)",
+        "twins_hold(n, one, other, thing)",
+    ),
 }
 
 ROWS = {"row": (2, 3, 1), "one": (2, 3, 1), "other": (3, 1, 2), "i": 1, "pairs": ((1, 3), (2, 3)), "thing": None}
@@ -49,11 +65,16 @@ EASY = ((1, 2, ()), (1, 3, ()), (2, 3, ()))
 RULES = {"arcs": EASY, "rule": EASY, "one": EASY, "other": EASY[:1], "thing": ("rule",)}
 FINEST = {"pairs": (((2, 1, 3), (2, 3, 1)),), "arc": (1, 3, ()), "thing": ("counts", EASY)}
 CLASSES = {**ROWS, "rule": EASY, "lot": ((1, 3, ()),), "thing": ("first",)}
+LISTS = {"rule": EASY, "row": (2, 3, 1), "number": 4}
+EVEN = {"rule": EASY, "row": (2, 3, 1), "thing": ("even",)}
+MARKS = {"rule": EASY, "marks": ("", "ahead", "both"), "thing": ("marks", ("", "ahead", ""))}
+LEFT, RIGHT = (3, (2, (1, (), ()), ()), ()), (1, (), (2, (), (3, (), ())))
+TREES = {"row": (2, 3, 1), "tree": LEFT, "one": LEFT, "other": RIGHT, "thing": ("twins", (3, 2, 1))}
 
 # Right arguments for the functions of each file.
 GOOD = {
     "rows": ROWS, "arcs": ARCS, "lots": LOTS, "rules": RULES, "finest": FINEST, "classes": CLASSES,
-    "quotient": CLASSES,
+    "quotient": CLASSES, "lists": LISTS, "even": EVEN, "marks": MARKS, "trees": TREES,
 }
 
 
