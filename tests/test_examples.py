@@ -89,6 +89,47 @@ MARKS = """
 [((2, (1, (), ()), ()),), ('twins', (2, 3, 1)), True]
 """
 
+MACHINES = """
+>>> from keptarcs.machines import finer_holds, judge_alike, judge_machine, many_classes, reads, rule_for, shunning, turn_word
+>>> ALL, TREES = ((0,), (0,), (True,)), ((1, 1), (0, 1), (True, False))
+>>> [turn_word(5, (1, 5, (2, 4))), reads(TREES, 'BB'), reads(TREES, 'BA'), judge_machine(TREES), judge_machine(((1, 1), (1, 1), (True, False))), judge_machine(((1, 0), (1, 0), (True, False)))[0]]
+['ABA', True, False, ('rule',), ('rule',), 'stretch']
+>>> [rule_for(3, TREES), many_classes(3, TREES), many_classes(5, ALL), many_classes(8, TREES), judge_alike(ALL, TREES), finer_holds(ALL, TREES, ('finer',)), reads(shunning(('AB',)), 'BAA')]
+[((1, 2, ()), (1, 3, ()), (2, 3, ())), 5, 120, 1430, ('word', 'A'), True, True]
+"""
+
+BODIES = """
+>>> from keptarcs.bodies import best_matching, corner, corners, greatest_worth, judge_point, matchings
+>>> TWO, ALL = ((1, 2, ()),), ((1, 2, ()), (1, 3, ()), (1, 3, (2,)), (2, 3, ()))
+>>> [matchings(3, (1, 3, ())), matchings(4, (1, 4, (3,))), best_matching(3, (1, 3, (2,)), (1, 3, 2)), corner(3, ALL, (3, 2, 1)), corner(3, ALL, (1, 3, 2))]
+[((), (1, 2), (1, 3)), ((), (1, 2), (1, 2, 3, 4), (1, 4), (3, 4)), (2, 3), (3, 0, -3), (0, 2, -2)]
+>>> [corners(2, TWO), greatest_worth(2, TWO, (5, 1)), judge_point(2, TWO, (1, -1)), judge_point(2, TWO, (2, -2)), judge_point(2, TWO, (1, 0)), judge_point(3, ALL, (1, 0, -1))]
+[((0, 0), (1, -1)), 4, ('corner', (2, 1)), ('outside', (1,)), ('outside', (1, 2)), ('within',)]
+"""
+
+MAPS = """
+>>> from keptarcs.maps import class_map, class_order, is_map, is_order, judge_map, map_holds
+>>> STEP = (2, ((0, 1),))
+>>> [is_order(STEP), is_order((2, ())), is_map(2, STEP, (0, 1)), judge_map(2, STEP, (0, 1)), judge_map(2, STEP, (1, 1)), map_holds(2, STEP, (1, 0), ('parts', 'above', (1, 2), (2, 1)))]
+[True, False, True, ('keeps', ((1, 2, ()),)), ('keeps', ()), True]
+>>> [class_order(3, ((1, 2, ()),)), class_map(3, ((1, 2, ()),))]
+[(2, ((0, 1),)), (0, 0, 1, 1, 0, 1)]
+"""
+
+YARDS = """
+>>> from keptarcs.yards import Yard, read_yard
+>>> yard = Yard(3)
+>>> [yard.blind((1, 3, (2,))), yard.exchange(0), yard.exchange(1), yard.row(), yard.first(), yard.down(), yard.row()]
+[None, None, None, (2, 3, 1), (2, 1, 3), None, (2, 1, 3)]
+>>> [yard.text(), yard.undo(), yard.row(), yard.count((1, 3, (2,))), len(yard.rule()), yard.undoable(), yard.is_same(yard.copied())]
+['yard 3\\nrow 2 1 3\\narc 1 3 2', None, (2, 3, 1), None, 4, 4, True]
+>>> yard.exchange(2)
+raises BadNumber(2)
+>>> from keptarcs.yards import read_yard
+>>> read_yard('yard 3\\nrow 1 2 3\\narc 1 3 2\\narc 1 2')
+raises BadText(4)
+"""
+
 
 class ExamplesTest(unittest.TestCase):
     def test_rows(self):
@@ -118,9 +159,21 @@ class ExamplesTest(unittest.TestCase):
     def test_marks_and_trees(self):
         examples.check(self, MARKS)
 
+    def test_machines(self):
+        examples.check(self, MACHINES)
+
+    def test_bodies(self):
+        examples.check(self, BODIES)
+
+    def test_maps(self):
+        examples.check(self, MAPS)
+
+    def test_yards(self):
+        examples.check(self, YARDS)
+
     def test_readme(self):
         blocks = README.read_text().split("```")[1::2]
-        self.assertEqual(len(blocks), 4)
+        self.assertEqual(len(blocks), 6)
         for block in blocks:
             examples.check(self, block)
 

@@ -2,109 +2,47 @@ import importlib
 import inspect
 import unittest
 
-FUNCTIONS = {
-    "rows": (
-        "is_row(n, thing)", "turned_pairs(n, row)", "mirror(n, row)", "exchanged(n, row, i)",
-        "row_by_pairs(n, pairs)", "is_below(n, one, other)", "judge_below(n, one, other)",
-        "below_holds(n, one, other, thing)", "distance(n, one, other)",
-        "least_above(n, one, other)", "greatest_below(n, one, other)", "all_rows(n)",
-    ),
-    "arcs": (
-        "is_arc(n, thing)", "all_arcs(n)", "arc_at(n, row, i)", "arcs_of_falls(n, row)",
-        "arcs_of_rises(n, row)", "single_row(n, arc)", "arcs_within(n, arc)",
-        "lies_within(n, one, other)", "judge_crossing(n, one, other)",
-        "crossing_holds(n, one, other, thing)",
-    ),
-    "lots": (
-        "is_lot(n, thing)", "judge_lot(n, arcs)", "lot_holds(n, arcs, thing)", "all_lots(n)",
-        "lot_of_falls(n, row)", "lot_of_rises(n, row)", "row_of_falls(n, lot)",
-        "row_of_rises(n, lot)", "judge_making(n, row, rows)", "making_holds(n, row, rows, thing)",
-    ),
-    "rules": (
-        "is_rule(n, thing)", "judge_rule(n, arcs)", "rule_holds(n, arcs, thing)", "widest_rule(n, arcs)",
-        "least_blind(n, rule)", "rules_together(n, one, other)", "rules_common(n, one, other)",
-        "is_finer(n, one, other)", "all_rules(n)", "many_rules(n)",
-    ),
-    "finest": (
-        "finest_rule(n, pairs)", "judge_arc(n, pairs, arc)", "arc_holds(n, pairs, arc, thing)",
-    ),
-    "classes": (
-        "first_row(n, rule, row)", "last_row(n, rule, row)", "judge_first(n, rule, row)",
-        "first_holds(n, rule, row, thing)", "way_down(n, rule, row)", "are_one(n, rule, one, other)",
-        "judge_one(n, rule, one, other)", "one_holds(n, rule, one, other, thing)", "class_of(n, rule, row)",
-        "lot_of_class(n, rule, row)", "row_of_lot(n, rule, lot)", "classes(n, rule)", "many_classes(n, rule)",
-    ),
-    "quotient": (
-        "is_class_below(n, rule, one, other)", "judge_class_below(n, rule, one, other)",
-        "class_below_holds(n, rule, one, other, thing)", "least_class_above(n, rule, one, other)",
-        "greatest_class_below(n, rule, one, other)", "lower_neighbours(n, rule, row)",
-        "upper_neighbours(n, rule, row)", "are_neighbours(n, rule, one, other)",
-    ),
-    "lists": (
-        "lesser_rule(n, rule)", "gone_through(n, rule)", "listed_row(n, rule, row)", "place_in_list(n, rule, row)",
-        "row_at(n, rule, number)",
-    ),
-    "even": (
-        "is_full(n, rule)", "many_neighbours(n, rule, row)", "judge_even(n, rule)", "even_holds(n, rule, thing)",
-    ),
-    "marks": (
-        "is_marks(n, thing)", "rule_of_marks(n, marks)", "twin_rule(n)", "judge_marked(n, rule)",
-        "marked_holds(n, rule, thing)",
-    ),
-    "trees": (
-        "is_tree(n, thing)", "tree_of(n, row)", "late_tree_of(n, row)", "next_trees(n, tree)",
-        "rows_of_tree(n, tree)", "first_row_of(n, tree)", "judge_twins(n, one, other)",
-        "twins_hold(n, one, other, thing)",
-    ),
-}
+from tests.interface import FUNCTIONS, functions
+from tests.values import named_backward
 
-ROWS = {"row": (2, 3, 1), "one": (2, 3, 1), "other": (3, 1, 2), "i": 1, "pairs": ((1, 3), (2, 3)), "thing": None}
-ARCS = {"row": (2, 3, 1), "i": 1, "arc": (1, 3, (2,)), "one": (2, 3, ()), "other": (1, 3, ()), "thing": ("apart",)}
-LOTS = {"arcs": ((1, 2, ()),), "lot": ((1, 2, ()),), "row": (2, 3, 1), "rows": ((2, 1, 3),), "thing": ("lot",)}
-EASY = ((1, 2, ()), (1, 3, ()), (2, 3, ()))
-RULES = {"arcs": EASY, "rule": EASY, "one": EASY, "other": EASY[:1], "thing": ("rule",)}
-FINEST = {"pairs": (((2, 1, 3), (2, 3, 1)),), "arc": (1, 3, ()), "thing": ("counts", EASY)}
-CLASSES = {**ROWS, "rule": EASY, "lot": ((1, 3, ()),), "thing": ("first",)}
-LISTS = {"rule": EASY, "row": (2, 3, 1), "number": 4}
-EVEN = {"rule": EASY, "row": (2, 3, 1), "thing": ("even",)}
-MARKS = {"rule": EASY, "marks": ("", "ahead", "both"), "thing": ("marks", ("", "ahead", ""))}
-LEFT, RIGHT = (3, (2, (1, (), ()), ()), ()), (1, (), (2, (), (3, (), ())))
-TREES = {"row": (2, 3, 1), "tree": LEFT, "one": LEFT, "other": RIGHT, "thing": ("twins", (3, 2, 1))}
-
-# Right arguments for the functions of each file.
-GOOD = {
-    "rows": ROWS, "arcs": ARCS, "lots": LOTS, "rules": RULES, "finest": FINEST, "classes": CLASSES,
-    "quotient": CLASSES, "lists": LISTS, "even": EVEN, "marks": MARKS, "trees": TREES,
-}
+YARD = (
+    "__init__(self, n)", "rule(self)", "row(self)", "text(self)", "first(self)", "last(self)", "undoable(self)",
+    "redoable(self)", "blind(self, arc)", "count(self, arc)", "exchange(self, i)", "down(self)", "up(self)",
+    "undo(self)", "redo(self)", "copied(self)", "is_same(self, thing)",
+)
 
 
 class InterfaceTest(unittest.TestCase):
+    """[0.2]"""
+
     def test_names_and_parameters(self):
-        for file, functions in FUNCTIONS.items():
+        for file, told in FUNCTIONS.items():
             module = importlib.import_module(f"keptarcs.{file}")
-            for told in functions:
-                function = getattr(module, told.partition("(")[0])
-                self.assertEqual(function.__name__ + str(inspect.signature(function)), told)
+            for text in told:
+                function = getattr(module, text.partition("(")[0])
+                self.assertEqual(function.__name__ + str(inspect.signature(function)), text)
 
     def test_defined_in_the_file_that_lists_it(self):
-        for file, functions in FUNCTIONS.items():
-            module = importlib.import_module(f"keptarcs.{file}")
-            for told in functions:
-                function = getattr(module, told.partition("(")[0])
-                self.assertEqual(function.__module__, f"keptarcs.{file}")
+        for file, function, _ in functions():
+            self.assertEqual(function.__module__, f"keptarcs.{file}")
+
+    def test_methods_of_yards(self):
+        found = importlib.import_module("keptarcs.yards").Yard
+        self.assertEqual((found.__module__, found.__bases__), ("keptarcs.yards", (object,)))
+        for text in YARD:
+            method = vars(found)[text.partition("(")[0]]
+            self.assertEqual(method.__name__ + str(inspect.signature(method)), text)
 
     def test_by_position_and_by_name_and_twice(self):
-        for file, functions in FUNCTIONS.items():
-            module = importlib.import_module(f"keptarcs.{file}")
-            for told in functions:
-                function = getattr(module, told.partition("(")[0])
-                named = {name: {**GOOD[file], "n": 3}[name] for name in inspect.signature(function).parameters}
-                kept = repr(named)
-                found = function(*named.values())
-                self.assertIsNotNone(found)
-                self.assertEqual(function(**dict(reversed(list(named.items())))), found, told)
-                self.assertEqual(function(*named.values()), found, told)
-                self.assertEqual(repr(named), kept)
+        for file, function, named in functions():
+            if file == "yards":
+                continue
+            kept = repr(named)
+            found = function(*named.values())
+            self.assertIsNotNone(found)
+            self.assertEqual(function(**named_backward(named)), found, function)
+            self.assertEqual(function(*named.values()), found, function)
+            self.assertEqual(repr(named), kept)
 
 
 if __name__ == "__main__":

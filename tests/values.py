@@ -2,6 +2,8 @@
 
 import itertools
 
+from keptarcs.yards import Yard
+
 
 class Own:
     """Stands for the objects that may be among any values."""
@@ -9,6 +11,32 @@ class Own:
 
 def nested(depth):
     return (nested(depth - 1),) if depth else ()
+
+
+def used_yard(n):
+    """A yard with deeds that can be undone, and with some that can be done again."""
+    yard = Yard(n)
+    yard.blind((1, n, ()))
+    yard.exchange(0)
+    yard.up()
+    yard.undo()
+    return yard
+
+
+# The yards among any values, which nothing that takes them as such may change.
+YARDS = (Yard(1), Yard(3), used_yard(3), used_yard(2))
+
+
+def kept_by(yard):
+    return yard.n, yard.rule(), yard.row(), yard.undoable(), yard.redoable()
+
+
+KEPT = [kept_by(yard) for yard in YARDS]
+
+
+def check_yards(test):
+    """The yards among any values are as they were."""
+    test.assertEqual([kept_by(yard) for yard in YARDS], KEPT)
 
 
 ANY = (
@@ -23,6 +51,8 @@ ANY = (
     ("order", 0), ("order", -1), ("ends", 1, 2), ("word",) * 5, ("below", ()), ("lot", 1),
     nested(8), [[[[[[[[]]]]]]]], (1,) * 1999, tuple(range(1, 2000)), [None] * 1999,
     Own(), (Own(),), [Own(), Own()], (1, 2, Own()), ("pair", Own(), 2),
+    *YARDS, (YARDS[1],), (YARDS[2], YARDS[2]), (1, YARDS[3]), (1, 2, YARDS[1]), {"yard": [YARDS[2]]},
+    ("rule", YARDS[1]), ("ways", YARDS[1]), ("lots", YARDS[1], ()), ("word", YARDS[0]), ("keeps", YARDS[2]),
 )
 
 
@@ -41,7 +71,7 @@ def is_among(thing, things):
 
 def instead_of(part):
     """Other values in the place of a part that is no tuple."""
-    found = [None, True, False, -1, "", (), [], {}, Own(), 10 ** 39]
+    found = [None, True, False, -1, "", (), [], {}, Own(), 10 ** 39, YARDS[2]]
     if isinstance(part, int):
         found += [part + 1, part - 1, str(part), (part,), [part]]
     if isinstance(part, str):
@@ -70,6 +100,7 @@ def check_told(test, holds, args, is_right, things):
         test.assertIs(told, is_right(thing), (args, thing))
         test.assertIs(holds(*args, thing=thing), told)
         test.assertEqual(repr((args, thing)), kept)
+    check_yards(test)
 
 
 def check_holds(test, holds, args, right, others):
@@ -93,10 +124,15 @@ def named_backward(good):
 
 
 def check_wrong(test, function, n, good, wrong):
+    """As check_all_wrong, for a function that n is passed to ahead of good."""
+    check_all_wrong(test, function, {"n": n, **good}, wrong)
+
+
+def check_all_wrong(test, function, good, wrong):
     """Each wrong value gives its error; of several wrong ones the first one does.
 
-    good: a dict of right arguments behind n, in their order; wrong: for some of their names a
-    pair of an error and a list of wrong values.
+    good: a dict of right arguments in their order; wrong: for some of their names a pair of an
+    error and a list of wrong values.
     """
     names = [name for name in good if name in wrong]
     for at, name in enumerate(names):
@@ -104,12 +140,13 @@ def check_wrong(test, function, n, good, wrong):
         for thing in values:
             alone = {**good, name: thing}
             kept = repr(alone)
-            check_error(test, error, thing, lambda: function(n, *alone.values()))
-            check_error(test, error, thing, lambda: function(**named_backward(alone), n=n))
+            check_error(test, error, thing, lambda: function(*alone.values()))
+            check_error(test, error, thing, lambda: function(**named_backward(alone)))
             test.assertEqual(repr(alone), kept)
         for thing, late in itertools.product(values[:9], range(9)):
             several = {**good, name: thing}
             for other in names[at + 1:]:
                 several[other] = wrong[other][1][late % len(wrong[other][1])]
-            check_error(test, error, thing, lambda: function(n, *several.values()))
-            check_error(test, error, thing, lambda: function(**named_backward(several), n=n))
+            check_error(test, error, thing, lambda: function(*several.values()))
+            check_error(test, error, thing, lambda: function(**named_backward(several)))
+    check_yards(test)
